@@ -1,7 +1,8 @@
 """Tables: lists of one to eight rows of whole numbers, each row with the same one to eight columns."""
 
 from signbook.errors import BadTable, NoFit, NoPick, NoPivot
-from signbook.fractions import fraction, is_fraction, is_whole, plus, times
+from signbook.fractions import fraction, is_whole, plus, times
+from signbook.lists import is_fractions
 
 MOST = 8
 
@@ -33,6 +34,15 @@ def check_pick(thing, many):
     check_places(thing, many)
     if not thing:
         raise NoPick(-1)
+
+
+def is_pick(thing, many):
+    """Tell of anything whether it is a pick of places below many."""
+    try:
+        check_pick(thing, many)
+    except NoPick:
+        return False
+    return True
 
 
 def check_places(thing, many):
@@ -102,10 +112,8 @@ def product(one, other):
 def led(table, xs):
     """Tell the sums of the rows times a list of as many fractions as there are columns."""
     check_table(table)
-    if not isinstance(xs, list) or len(xs) != len(table[0]):
+    if not is_fractions(xs, len(table[0])):
         raise NoFit("not a list of as many fractions as there are columns")
-    if not all([is_fraction(x) for x in xs]):
-        raise NoFit("something in the list is no fraction")
     return [row_sum(row, xs) for row in table]
 
 
@@ -122,8 +130,13 @@ def determinant(table):
     many, wide = shape(table)
     if many != wide:
         raise NoFit("not as many rows as columns")
-    steps, corner = cleared(table)
-    return corner if steps == many else 0
+    return square_value(table)
+
+
+def square_value(square):
+    """Tell the determinant of what surely is a square."""
+    steps, corner = cleared(square)
+    return corner if steps == len(square) else 0
 
 
 def rank(table):

@@ -1,5 +1,6 @@
 """What several tests share: tables to try, things that are no tables, and slow sure ways to check."""
 
+from fractions import Fraction
 from itertools import combinations, permutations, product as choices
 from random import Random
 
@@ -58,6 +59,12 @@ class Odd:
 
 
 NO_PLACES = [None, True, False, "0", "", b"0", (), (0,), [], [0], {}, {0}, object(), Odd()]
+NO_LISTS = [None, True, 0, "", "01", b"0", (), (0,), {}, {0: 0}, {0}, object(), Odd()]
+NO_WHOLES = [*NO_PLACES, (0, 1)]
+NO_FRACTIONS = [
+    None, True, 0, 1, "1/2", b"12", (), (1,), (2, 4), (0, 2), (1, 0), (1, -1), (1, 1, 1), (True, 1), (1, True),
+    ("1", 2), [1, 2], {1: 2}, object(), Odd(), (Odd(), 1), (1, Odd()),
+]
 
 
 def all_tables(rows, columns, entries):
@@ -114,3 +121,84 @@ def raised(kind, call, *given, **named):
         assert type(refusal) is kind, f"{type(refusal)} for {kind}"
         return refusal
     raise AssertionError(f"{call.__name__}{given!r} told {told!r}")
+
+
+def net_table(above, arcs):
+    """Tell the table of a net: a row for each place but 0, of the end to the place above it, a column for each arc."""
+
+    def ends_to_the_top(place):
+        ends = set()
+        while place > 0:
+            ends.add(place)
+            place = above[place - 1]
+        return ends
+
+    ways = [(ends_to_the_top(one), ends_to_the_top(other)) for one, other in arcs]
+    return [[int(end in up) - int(end in down) for up, down in ways] for end in range(1, len(above) + 1)]
+
+
+def some_nets(many, seed, rows=8, columns=8):
+    """Tell tables of nets, all of which are unimodular, the same ones each time."""
+    chance = Random(seed)
+    for _ in range(many):
+        above = [chance.randrange(place) for place in range(1, rows + 1)]
+        yield net_table(above, [(chance.randint(0, rows), chance.randint(0, rows)) for _ in range(columns)])
+
+
+def some_stretches(many, seed, rows=8, columns=8):
+    """Tell tables with the ones of each row side by side, all of which are unimodular, the same ones each time."""
+    chance = Random(seed)
+    for _ in range(many):
+        ends = [sorted((chance.randint(0, columns), chance.randint(0, columns))) for _ in range(rows)]
+        yield [[int(low <= column < high) for column in range(columns)] for low, high in ends]
+
+
+def sound_tables(many, seed):
+    """Tell unimodular tables of many shapes: nets and stretches, turned and signed, and one that is neither."""
+    chance = Random(seed)
+    yield [[1, 0, 0, 1, -1], [-1, 1, 0, 0, 1], [1, -1, 1, 0, 0], [0, 1, -1, 1, 0], [0, 0, 1, -1, 1]]
+    for at in range(many):
+        rows, columns = chance.randint(1, 8), chance.randint(1, 8)
+        some = some_stretches if at % 3 == 0 else some_nets
+        table = next(some(1, chance.random(), rows, columns))
+        turning = [at for at in range(columns) if chance.random() < 0.5]
+        table = [[-entry if at in turning else entry for at, entry in enumerate(row)] for row in table]
+        yield [list(row) for row in zip(*table)] if at % 2 else table
+
+
+def ring(size):
+    """Tell the bad square of a ring of ones of so many rows: two entries in each row and in each column."""
+    table = [[int(column in (row, (row + 1) % size)) for column in range(size)] for row in range(size)]
+    # The ring of ones alone has the determinant 0 where its rows are even in number.
+    table[-1][0] = 1 if size % 2 else -1
+    return table
+
+
+def amid_noughts(square, rows, columns, many=8, wide=8):
+    """Tell a table of noughts with a square put at picks of rows and of columns."""
+    table = [[0] * wide for _ in range(many)]
+    for row, entries in zip(rows, square):
+        for column, entry in zip(columns, entries):
+            table[row][column] = entry
+    return table
+
+
+def slow_bad_square(table):
+    """Tell the first bad one of all squares, or None."""
+    return next((square for square in squares(table) if square[2] not in (-1, 0, 1)), None)
+
+
+def some_wholes(many, chance, most):
+    """Tell as many whole numbers up to a size."""
+    return [chance.randint(-most, most) for _ in range(many)]
+
+
+def pairs(values):
+    """Tell fractions, as the standard library has them, as tuples."""
+    return [(value.numerator, value.denominator) for value in values]
+
+
+def some_fractions(many, seed):
+    """Tell as many fractions, the same ones each time."""
+    chance = Random(seed)
+    return pairs([Fraction(chance.randint(-9, 9), chance.randint(1, 6)) for _ in range(many)])

@@ -36,6 +36,28 @@ INTERFACE = {
         "rank": "(table)",
         "pivoted": "(table, row, column)",
     },
+    "signbook.squares": {
+        "bad_square": "(table)",
+        "is_bad_square": "(table, thing)",
+    },
+    "signbook.signs": {
+        "signs_for": "(table, rows)",
+        "book": "(table)",
+        "is_book": "(table, thing)",
+        "is_unimodular": "(table)",
+    },
+    "signbook.programs": {
+        "within": "(table, bounds, xs)",
+        "is_answer": "(table, bounds, gains, answer)",
+        "best": "(table, bounds, gains)",
+        "priced": "(table, bounds, gains)",
+        "corners": "(table, bounds)",
+        "unwhole": "(table)",
+    },
+    "signbook.rounding": {
+        "rounded": "(table, xs)",
+        "unrounded": "(table)",
+    },
 }
 
 LIBRARY = ("heapq", "math", "itertools", "collections")

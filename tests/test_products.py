@@ -3,24 +3,13 @@
 import unittest
 from copy import deepcopy
 from fractions import Fraction
-from random import Random
 
-from samples import NO_TABLES, Odd, raised, some_tables
+from samples import NO_FRACTIONS, NO_TABLES, Odd, raised, some_fractions, some_tables
 from signbook.errors import BadTable, NoFit
 from signbook.fractions import is_fraction
 from signbook.tables import led, product, shape, turned
 
 LONG = 10 ** 39 + 7
-WRONG_IN_LISTS = [
-    None, True, 0, 1, "1/2", (), (1,), (2, 4), (0, 2), (1, 0), (1, -1), (1, 1, 1), (True, 1), [1, 2], Odd(),
-]
-
-
-def some_fractions(many, seed):
-    """Tell as many fractions, the same ones each time."""
-    chance = Random(seed)
-    values = [Fraction(chance.randint(-9, 9), chance.randint(1, 6)) for _ in range(many)]
-    return [(value.numerator, value.denominator) for value in values]
 
 
 class Products(unittest.TestCase):
@@ -102,7 +91,7 @@ class Led(unittest.TestCase):
             raised(NoFit, led, [[1, 2]], thing)
 
     def test_what_is_no_list_of_fractions_is_refused(self):
-        for thing in WRONG_IN_LISTS:
+        for thing in NO_FRACTIONS:
             for at in range(3):
                 xs = [(1, 2), (0, 1), (-3, 1)]
                 xs[at] = thing

@@ -3,12 +3,11 @@
 import unittest
 from copy import deepcopy
 
-from samples import NETLIKE, NO_PLACES, NO_TABLES, all_tables, picks, raised, some_tables
+from samples import NETLIKE, NO_LISTS, NO_PLACES, NO_TABLES, all_tables, picks, raised, some_tables
 from signbook.errors import BadTable, NoPick
 from signbook.tables import is_plain, is_table, piece, shape, signed_by, turned
 
 LONG = 10 ** 39 + 7
-NO_LISTS = [None, True, 0, "", "01", b"0", (), (0,), {}, {0: 0}, {0}, object()]
 
 
 class Kinds(unittest.TestCase):
