@@ -29,3 +29,18 @@ def check_fractions(thing, many, word):
     """Refuse what is no list of so many fractions, by the word for it."""
     if not is_fractions(thing, many):
         raise NoList(word)
+
+
+def check_small(thing, many, most, word):
+    """Refuse what is no list of so many whole numbers from 0 to the most, by the word for it."""
+    check_numbers(thing, many, word)
+    if not all([0 <= number <= most for number in thing]):
+        raise NoList(word)
+
+
+def all_lists(choices):
+    """Tell all lists that have, place by place, one of the choices there, in the order of these."""
+    told = [[]]
+    for some in choices:
+        told = [ahead + [one] for ahead in told for one in some]
+    return told

@@ -1,9 +1,9 @@
 """Fractions rounded so that the sums of a table's rows are rounded, too."""
 
 from signbook.fractions import ceiling_of, floor_of, fraction
-from signbook.lists import check_fractions
+from signbook.lists import all_lists, check_fractions
 from signbook.squares import bad_square
-from signbook.tables import check_table, led
+from signbook.tables import check_table, led, row_totals
 
 
 def rounded(table, xs):
@@ -19,17 +19,13 @@ def rounded(table, xs):
 
 def all_rounded(xs):
     """Tell all lists of floors and ceilings of fractions, sorted."""
-    ways = [[]]
-    for x in xs:
-        # Of a whole number floor and ceiling are one, which must not be tried twice.
-        ways = [way + [whole] for way in ways for whole in range(floor_of(x), ceiling_of(x) + 1)]
-    return ways
+    # Of a whole number floor and ceiling are one, which must not be tried twice.
+    return all_lists([list(range(floor_of(x), ceiling_of(x) + 1)) for x in xs])
 
 
 def is_between(table, whole, ends):
     """Tell whether each row's sum of entries times whole numbers lies between its two ends."""
-    totals = [sum([entry * number for entry, number in zip(row, whole)]) for row in table]
-    return all([low <= total <= high for total, (low, high) in zip(totals, ends)])
+    return all([low <= total <= high for total, (low, high) in zip(row_totals(table, whole), ends)])
 
 
 def unrounded(table):

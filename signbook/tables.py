@@ -1,6 +1,6 @@
 """Tables: lists of one to eight rows of whole numbers, each row with the same one to eight columns."""
 
-from signbook.errors import BadTable, NoFit, NoPick, NoPivot
+from signbook.errors import BadTable, NoFit, NoPick, NoPivot, NotPlain
 from signbook.fractions import fraction, is_whole, plus, times
 from signbook.lists import is_fractions
 
@@ -27,6 +27,13 @@ def check_table(thing):
     """Refuse what is no table."""
     if not is_table(thing):
         raise BadTable("not a table")
+
+
+def check_ones(table):
+    """Refuse what is no table, then one with other entries than 0 and 1."""
+    check_table(table)
+    if not all([entry in (0, 1) for row in table for entry in row]):
+        raise NotPlain("not a table of noughts and ones")
 
 
 def check_pick(thing, many):
@@ -123,6 +130,11 @@ def row_sum(row, xs):
     for entry, x in zip(row, xs):
         total = plus(total, times(fraction(entry), x))
     return total
+
+
+def row_totals(table, numbers):
+    """Tell the sums of the rows of what surely is a table times whole numbers."""
+    return [sum([entry * number for entry, number in zip(row, numbers)]) for row in table]
 
 
 def determinant(table):

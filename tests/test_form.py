@@ -58,6 +58,24 @@ INTERFACE = {
         "rounded": "(table, xs)",
         "unrounded": "(table)",
     },
+    "signbook.parting": {
+        "parted": "(table, bounds, xs, *, many)",
+        "spread": "(table)",
+        "halved": "(table, xs)",
+    },
+    "signbook.nets": {
+        "net_table": "(ends, arcs)",
+        "as_net": "(table)",
+        "is_net": "(table, thing)",
+    },
+    "signbook.standing": {
+        "together": "(table)",
+        "is_together": "(table, order)",
+    },
+    "signbook.seven": {
+        "signed": "(table)",
+        "is_piece": "(table, thing)",
+    },
 }
 
 LIBRARY = ("heapq", "math", "itertools", "collections")
