@@ -76,6 +76,26 @@ INTERFACE = {
         "signed": "(table)",
         "is_piece": "(table, thing)",
     },
+    "signbook.sums": {
+        "beside": "(one, other)",
+        "two_sum": "(one, other)",
+        "three_sum": "(one, other)",
+        "parts": "(table)",
+    },
+    "signbook.packing": {
+        "packed": "(table)",
+        "bought": "(table, worths)",
+        "paired": "(table)",
+        "crossing": "(table)",
+    },
+    "signbook.texts": {
+        "show_numbers": "(numbers)",
+        "show_fractions": "(fractions)",
+        "show_table": "(table)",
+        "read_numbers": "(text)",
+        "read_fractions": "(text)",
+        "read_table": "(text)",
+    },
 }
 
 LIBRARY = ("heapq", "math", "itertools", "collections")

@@ -94,7 +94,8 @@ class Parted(unittest.TestCase):
     def test_the_least_of_all_lists_of_lists(self):
         found = {True: 0, False: 0}
         chance = Random(201)
-        for table in [*all_tables(1, 2, (-2, -1, 0, 1, 3)), *all_tables(2, 2, (-1, 1, 2)), *some_tables(40, -2, 2, 202)]:
+        tables = [*all_tables(1, 2, (-2, -1, 0, 1, 3)), *all_tables(2, 2, (-1, 1, 2)), *some_tables(40, -2, 2, 202)]
+        for table in tables:
             table = [row[:3] for row in table]
             xs = [chance.randint(0, 2) for _ in table[0]]
             for many in (1, 2, 3):
@@ -128,7 +129,10 @@ class Parted(unittest.TestCase):
                 self.assertTrue(self.check(table, tight_bounds(table, xs, many), xs, many))
 
     def test_in_good_time(self):
-        for table in ([[3, -2, 1, -1]] * 8, [[2, 2, -3, -3]], [[1] * 4] * 8, [[-1, 1, 0, 0], [0, -1, 1, 0], [1, 0, -1, 0]]):
+        for table in (
+            [[3, -2, 1, -1]] * 8, [[2, 2, -3, -3]], [[1] * 4] * 8,
+            [[-1, 1, 0, 0], [0, -1, 1, 0], [1, 0, -1, 0]],
+        ):
             for many in range(1, 5):
                 self.check(table, tight_bounds(table, [4] * 4, many), [4] * 4, many)
 

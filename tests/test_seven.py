@@ -282,10 +282,11 @@ class IsPiece(unittest.TestCase):
         table = turned(turned(POINTS))
         self.check(table, ("seven", [], kept), True)
         for thing in (
-            ["seven", [], kept], ("seven", [], tuple(kept)), ("seven", (), kept), ("seven", [], kept, []), ("seven", []),
+            ["seven", [], kept], ("seven", [], tuple(kept)), ("seven", (), kept), ("seven", [], kept, []),
+            ("seven", []), ("seven", [], {0: kept}),
             ("seven",), (), ("seven", None, kept), ("seven", [], None), (None, [], kept), (Odd(), [], kept),
             (["seven"], [], kept), ("Seven", [], kept), ("signed", [], kept), ("", [], kept), (b"seven", [], kept),
-            ("seven", [], [False, *kept[1:]]), ("seven", [], [0, True, *kept[2:]]), ("seven", [], {0: kept}),
+            ("seven", [], [False, *kept[1:]]), ("seven", [], [0, True, *kept[2:]]),
             ("seven", {}, kept), ("seven", "", kept), ("seven", [], [[0], *kept[1:]]), ("seven", [], "0123456"),
             ("seven", [True], kept), ("seven", [None], kept), ("seven", [[]], kept), {"seven": kept},
         ):

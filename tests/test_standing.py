@@ -128,7 +128,8 @@ class IsTogether(unittest.TestCase):
         table = [[1, 1, 0], [0, 1, 1]]
         self.check(table, [0, 1, 2], True)
         wrong = [*NO_LISTS, [], [0, 1], [0, 1, 2, 3], [0, 0, 1, 2], [0, 1, 1], [2, 1, 2], [1, 2, 3], [-1, 0, 1]]
-        wrong += [(0, 1, 2), {0: 0, 1: 1, 2: 2}, "012", [[0, 1, 2]], [0, 1, -1], [0, 1, LONG], range(3), iter([0, 1, 2])]
+        wrong += [(0, 1, 2), {0: 0, 1: 1, 2: 2}, "012", [[0, 1, 2]], [0, 1, -1], [0, 1, LONG]]
+        wrong += [range(3), iter([0, 1, 2])]
         for order in wrong:
             self.check(table, order, False)
         for at in range(3):
