@@ -1,4 +1,4 @@
-"""Lists of numbers that stand beside a table, one number for each row or for each column."""
+"""Lists of numbers that stand beside a table, one for each row or for each column, and all lists of choices."""
 
 from signbook.errors import NoList
 from signbook.fractions import is_fraction, is_whole

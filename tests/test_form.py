@@ -1,6 +1,7 @@
 """The interface's names and arguments, and what the form of the code can be checked for by reading it."""
 
 import ast
+import builtins
 import importlib
 import inspect
 import re
@@ -152,6 +153,38 @@ class Form(unittest.TestCase):
                     for imported in node.names:
                         self.assertIsNone(imported.asname)
                         self.assertNotEqual(imported.name, "*")
+
+    def test_no_files_import_from_each_other_in_a_round(self):
+        known = {}
+        for name, _, tree in self.each():
+            paths = {node.module for node in ast.walk(tree) if isinstance(node, ast.ImportFrom)}
+            known["signbook." + name.removesuffix(".py")] = {path for path in paths if path.startswith("signbook.")}
+        while known:
+            first = [path for path, wanted in known.items() if not wanted & set(known)]
+            self.assertTrue(first, known)
+            known = {path: wanted for path, wanted in known.items() if path not in first}
+
+    def test_no_name_has_another_meaning(self):
+        for name, _, tree in self.each():
+            taken = {imported.name for node in ast.walk(tree) if isinstance(node,
+                ast.ImportFrom) for imported in node.names}
+            taken |= {node.name for node in ast.walk(tree) if isinstance(node, (ast.FunctionDef, ast.ClassDef))}
+            taken |= set(dir(builtins))
+            for node in ast.walk(tree):
+                if isinstance(node, ast.arg):
+                    self.assertNotIn(node.arg, taken, name)
+                if isinstance(node, ast.Name) and isinstance(node.ctx, ast.Store):
+                    self.assertNotIn(node.id, taken, name)
+
+    def test_no_generators_decorators_or_sets_that_are_gone_through(self):
+        barred = (ast.GeneratorExp, ast.Yield, ast.YieldFrom, ast.Set, ast.NamedExpr, ast.Match)
+        for name, _, tree in self.each():
+            for node in ast.walk(tree):
+                self.assertNotIsInstance(node, barred, name)
+                if isinstance(node, (ast.FunctionDef, ast.ClassDef)):
+                    self.assertEqual(node.decorator_list, [], name)
+                if isinstance(node, ast.For):
+                    self.assertNotIn("set(", ast.unparse(node.iter), name)
 
     def test_no_statement_or_value_outside_the_subset(self):
         barred = (ast.Global, ast.AsyncFunctionDef, ast.Await, ast.TryStar)

@@ -135,6 +135,9 @@ class Parted(unittest.TestCase):
         ):
             for many in range(1, 5):
                 self.check(table, tight_bounds(table, [4] * 4, many), [4] * 4, many)
+        # Each part must have one of the first column, of which there are three: but for that, nearly all would do.
+        self.assertFalse(self.check([[2, 0, 0, 0], [-2, 0, 0, 0]], [3, -1], [3, 4, 4, 4], 4))
+        self.assertFalse(self.check([[2, 2, 2, 2], [-2, -2, -2, -2]], [9, -7], [4, 4, 4, 3], 4))
 
     def test_bounds_of_up_to_forty_figures(self):
         self.assertEqual(parted(ROW, [LONG], [3, 4], many=3), [[0, 0], [0, 0], [3, 4]])

@@ -301,6 +301,17 @@ class IsPiece(unittest.TestCase):
             for thing in [*NO_PLACES, (0, 1)]:
                 self.check(table, ("seven", [], kept[:at] + [thing] + kept[at + 1:]), False)
 
+    def test_just_seven_are_kept(self):
+        # The unit of a row of noughts is in no tied set, so it changes none of the sizes.
+        more = POINTS + [[0, 0, 0, 0]]
+        self.check(more, ("seven", [], [0, 1, 2, 4, 5, 6, 7]), True)
+        self.check(more, ("seven", [3], [0, 1, 2, 4, 5, 6, 7]), True)
+        self.check(more, ("seven", [], [0, 1, 2, 3, 4, 5, 6, 7]), False)
+        other = turned(POINTS) + [[0, 0, 0]]
+        self.check(other, ("turned", [], [0, 1, 2, 3, 5, 6, 7]), True)
+        self.check(other, ("turned", [4], [0, 1, 2, 3, 5, 6, 7]), True)
+        self.check(other, ("turned", [], [0, 1, 2, 3, 4, 5, 6, 7]), False)
+
     def test_of_a_table_with_signs_nothing_is_one(self):
         for table in ([[1] * 4] * 3, small(ROUND), [[0] * 5] * 5, ring(5)[:4] + [[1, 0, 0, 0, 1]]):
             many = len(table) + len(table[0])
